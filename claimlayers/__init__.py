@@ -1,0 +1,1 @@
+"""Claimlayers: damages shared among covers in layers."""
