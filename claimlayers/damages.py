@@ -1,13 +1,12 @@
 """Damages: what they are, their order, and how they are written and read."""
 
-from claimlayers.bounds import is_row, is_whole
+from claimlayers.bounds import is_row, is_whole, number_written
 from claimlayers.errors import NoDamage
 
 MOST_YEAR = 9999
 MOST_DAY = 366
 MOST_NUMBER = 10 ** 9
 MOST_AMOUNT = 10 ** 15
-MOST_FIGURES = 16
 
 
 def is_damage(thing):
@@ -15,9 +14,22 @@ def is_damage(thing):
     if not is_row(thing, 4, 4):
         return False
     year, day, number, amount = thing
-    if not is_whole(year, 0, MOST_YEAR) or not is_whole(day, 1, MOST_DAY):
-        return False
-    return is_whole(number, 0, MOST_NUMBER) and is_whole(amount, 0, MOST_AMOUNT)
+    return is_year(year) and is_whole(day, 1, MOST_DAY) and is_number(number) and is_amount(amount)
+
+
+def is_year(thing):
+    """Tell whether the thing, whatever it is, is a year of damages."""
+    return is_whole(thing, 0, MOST_YEAR)
+
+
+def is_number(thing):
+    """Tell whether the thing, whatever it is, is a number under which a damage may stand."""
+    return is_whole(thing, 0, MOST_NUMBER)
+
+
+def is_amount(thing):
+    """Tell whether the thing, whatever it is, is an amount of a damage."""
+    return is_whole(thing, 0, MOST_AMOUNT)
 
 
 def ahead(one, other):
@@ -33,19 +45,7 @@ def written(damage):
 
 def read(line):
     """Answer the damage that the line tells; refuse any other line with NoDamage."""
-    damage = tuple([_number(word) for word in line.split(" ")])
+    damage = tuple([number_written(word) for word in line.split(" ")])
     if not is_damage(damage):
         raise NoDamage("the line is no damage as it is written")
     return damage
-
-
-def _number(word):
-    """Answer the number that the word writes, or None where no damage has such a number."""
-    if not word.isascii() or not word.isdigit():
-        return None
-    if word.startswith("0") and word != "0":
-        return None
-    # Python refuses to read some thousands of figures, with an error of its own.
-    if len(word) > MOST_FIGURES:
-        return None
-    return int(word)
